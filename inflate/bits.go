@@ -36,6 +36,15 @@ func (s *bits) number(n int) int {
 	return x
 }
 
+// code is one of n bits, the highest first.
+func (s *bits) code(n int) int {
+	x := 0
+	for range n {
+		x = x<<1 | s.one()
+	}
+	return x
+}
+
 // leave leaves out the rest of the byte.
 func (s *bits) leave() { s.left = 0 }
 

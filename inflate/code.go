@@ -9,7 +9,7 @@ type code struct {
 	longest int
 }
 
-func codeOf(lengths []int) code {
+func codeOf(lengths []int) *code {
 	var c code
 	for _, n := range lengths {
 		c.count[n]++
@@ -27,11 +27,11 @@ func codeOf(lengths []int) code {
 			next[n]++
 		}
 	}
-	return c
+	return &c
 }
 
 // good: is the sum of 2^-length 1, or is there one sign alone, of length 1?
-func (c code) good() bool {
+func (c *code) good() bool {
 	room := 1
 	for n := 1; n <= longestCode; n++ {
 		room = 2*room - c.count[n]
@@ -43,4 +43,4 @@ func (c code) good() bool {
 }
 
 // goodOfDistances: as good, but there may be no signs at all.
-func (c code) goodOfDistances() bool { return len(c.signs) == 0 || c.good() }
+func (c *code) goodOfDistances() bool { return len(c.signs) == 0 || c.good() }
