@@ -5,6 +5,7 @@ import (
 
 	"tramway/api"
 	"tramway/commit"
+	"tramway/halt"
 	"tramway/object"
 	"tramway/refs"
 	"tramway/trans"
@@ -34,34 +35,34 @@ func (b *back) goOn() {
 func (b *back) take() {
 	var e api.Errno
 	b.vault, e = vault.Load(b.s, b.hg)
-	need(e)
+	halt.On(e)
 	b.marks, e = vault.Marks(b.s, b.hg)
-	need(e)
+	halt.On(e)
 	nodes := map[api.Id]int{}
 	for i, node := range b.vault.Nodes {
 		nodes[node] = i
 	}
 	for _, m := range b.marks {
 		_, there := nodes[m.Node]
-		needSo(there, api.ErrNone)
+		halt.Unless(there, api.ErrNone)
 	}
 	b.needNames()
 	b.refs, e = refs.List(b.s, b.git)
-	need(e)
+	halt.On(e)
 }
 
 // needNames: may all bookmarks be refs, beside one another?
 func (b *back) needNames() {
 	known := map[string]int{}
 	for i, m := range b.marks {
-		needSo(refs.Right(headsDir+m.Name), api.ErrArg)
+		halt.Unless(refs.Right(headsDir+m.Name), api.ErrArg)
 		known[m.Name] = i
 	}
 	for _, m := range b.marks {
 		for i := range len(m.Name) {
 			if m.Name[i] == '/' {
 				_, clash := known[m.Name[:i]]
-				needSo(!clash, api.ErrClash)
+				halt.Unless(!clash, api.ErrClash)
 			}
 		}
 	}
@@ -70,12 +71,12 @@ func (b *back) needNames() {
 // convert lets the change i become a commit.
 func (b *back) convert(i int) {
 	node, parents := b.vault.Nodes[i], b.vault.Parents[i]
-	needSo(parents[0] >= 0 || parents[1] < 0, api.ErrForm)
+	halt.Unless(parents[0] >= 0 || parents[1] < 0, api.ErrForm)
 	l, e := vault.Tree(b.s, b.hg, node)
-	need(e)
+	halt.On(e)
 	root := b.putTree(l)
 	c, e := trans.Commit(b.vault.Changes[i])
-	need(e)
+	halt.On(e)
 	c.Tree = root
 	for _, p := range parents {
 		if p >= 0 {
@@ -83,7 +84,7 @@ func (b *back) convert(i int) {
 		}
 	}
 	body, e := commit.Print(c)
-	need(e)
+	halt.On(e)
 	b.mark(b.put(object.Commit, body), node)
 }
 
@@ -97,13 +98,13 @@ func (b *back) setRefs() {
 	for _, r := range b.refs {
 		have[r.Name] = r.Id
 		if _, wanted := want[r.Name]; strings.HasPrefix(r.Name, headsDir) && !wanted {
-			need(refs.Drop(b.s, b.git, r.Name))
+			halt.On(refs.Drop(b.s, b.git, r.Name))
 		}
 	}
 	for _, m := range b.marks {
 		name := headsDir + m.Name
 		if id, there := have[name]; !there || id != want[name] {
-			need(refs.Set(b.s, b.git, name, want[name]))
+			halt.On(refs.Set(b.s, b.git, name, want[name]))
 		}
 	}
 }

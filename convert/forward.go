@@ -7,6 +7,7 @@ import (
 
 	"tramway/api"
 	"tramway/commit"
+	"tramway/halt"
 	"tramway/object"
 	"tramway/odb"
 	"tramway/refs"
@@ -45,9 +46,9 @@ func (f *forward) goOn() {
 func (f *forward) heads() {
 	var e api.Errno
 	f.refs, e = refs.List(f.s, f.git)
-	need(e)
+	halt.On(e)
 	for _, r := range f.refs {
-		needSo(strings.HasPrefix(r.Name, headsDir), api.ErrArg)
+		halt.Unless(strings.HasPrefix(r.Name, headsDir), api.ErrArg)
 	}
 }
 
@@ -66,7 +67,7 @@ func (f *forward) gather() {
 		}
 		c := f.commit(id)
 		f.history[id] = c
-		needSo(len(f.history) <= api.MaxItems, api.ErrLong)
+		halt.Unless(len(f.history) <= api.MaxItems, api.ErrLong)
 		for _, p := range slices.Backward(c.Parents) {
 			open = append(open, p)
 		}
@@ -75,11 +76,11 @@ func (f *forward) gather() {
 
 func (f *forward) commit(id api.Id) commit.Commit {
 	kind, body, e := odb.Get(f.s, f.git, id)
-	need(e)
-	needSo(kind == object.Commit, api.ErrForm)
+	halt.On(e)
+	halt.Unless(kind == object.Commit, api.ErrForm)
 	c, e := commit.Parse(body)
-	need(e)
-	needSo(len(c.Parents) <= 2, api.ErrArg)
+	halt.On(e)
+	halt.Unless(len(c.Parents) <= 2, api.ErrArg)
 	return c
 }
 
@@ -101,7 +102,7 @@ func (f *forward) order() []api.Id {
 		}
 	}
 	order, e := walk.Order(parents)
-	need(e)
+	halt.On(e)
 	l := make([]api.Id, len(order))
 	for i, n := range order {
 		l[i] = ids[n]
@@ -114,13 +115,13 @@ func (f *forward) convert(id api.Id) {
 	c := f.history[id]
 	l := f.flat(c.Tree)
 	x, e := trans.Change(c)
-	need(e)
+	halt.On(e)
 	var parents [2]api.Id
 	for i, p := range c.Parents {
 		parents[i] = f.changes[p]
 	}
 	node, e := vault.Commit(f.s, f.hg, parents[0], parents[1], x, l)
-	need(e)
+	halt.On(e)
 	f.mark(id, node)
 }
 
@@ -133,5 +134,5 @@ func (f *forward) setMarks() {
 	if have, e := vault.Marks(f.s, f.hg); e == api.OK && slices.Equal(have, want) {
 		return
 	}
-	need(vault.SetMarks(f.s, f.hg, want))
+	halt.On(vault.SetMarks(f.s, f.hg, want))
 }

@@ -5,6 +5,7 @@ import (
 	"strings"
 
 	"tramway/api"
+	"tramway/halt"
 	"tramway/names"
 	"tramway/object"
 	"tramway/odb"
@@ -48,10 +49,10 @@ func (f *forward) get(kind int, id api.Id) []byte {
 	if !ok {
 		var e api.Errno
 		x.kind, x.body, e = odb.Get(f.s, f.git, id)
-		need(e)
+		halt.On(e)
 		f.things[id] = x
 	}
-	needSo(x.kind == kind, api.ErrForm)
+	halt.Unless(x.kind == kind, api.ErrForm)
 	return x.body
 }
 
@@ -61,18 +62,18 @@ func (f *forward) flat(root api.Id) []vault.File {
 	var within func(id api.Id, front string)
 	within = func(id api.Id, front string) {
 		entries, e := tree.Parse(f.get(object.Tree, id))
-		need(e)
-		needSo(front == "" || len(entries) > 0, api.ErrForm)
+		halt.On(e)
+		halt.Unless(front == "" || len(entries) > 0, api.ErrForm)
 		for _, x := range entries {
 			path := front + x.Name
 			switch x.Mode {
 			case modeTree:
 				within(x.Id, path+"/")
 			case modeCommit:
-				needSo(false, api.ErrArg)
+				halt.With(api.ErrArg)
 			default:
 				text := f.get(object.Blob, x.Id)
-				needSo(names.Right(path), api.ErrArg)
+				halt.Unless(names.Right(path), api.ErrArg)
 				l = append(l, vault.File{Path: path, Flag: flagOf(x.Mode), Text: text})
 			}
 		}
@@ -85,7 +86,7 @@ func (f *forward) flat(root api.Id) []vault.File {
 // put lays an object down.
 func (b *back) put(kind int, body []byte) api.Id {
 	id, e := odb.Put(b.s, b.git, kind, body)
-	need(e)
+	halt.On(e)
 	return id
 }
 
@@ -108,7 +109,7 @@ func (b *back) putTree(l []vault.File) api.Id {
 			}
 		}
 		body, e := tree.Print(tree.Sort(entries))
-		need(e)
+		halt.On(e)
 		return b.put(object.Tree, body)
 	}
 	return put(l, 0)

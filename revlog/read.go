@@ -4,12 +4,10 @@ import (
 	"slices"
 
 	"tramway/api"
+	"tramway/halt"
 	"tramway/patch"
 	"tramway/zlib"
 )
-
-// fault is what is thrown where a log doesn't go on.
-type fault struct{ no api.Errno }
 
 // reader goes through a log.
 type reader struct {
@@ -20,34 +18,21 @@ type reader struct {
 }
 
 // Read tells a log's revisions, and their nodes.
-func Read(b []byte) (revs []Rev, nodes []api.Id, no api.Errno) {
-	defer func() {
-		thrown := recover()
-		if thrown == nil {
-			return
-		}
-		f, ok := thrown.(fault)
-		if !ok {
-			panic(thrown)
-		}
-		revs, nodes, no = nil, nil, f.no
-	}()
+func Read(b []byte) ([]Rev, []api.Id, api.Errno) {
 	r := reader{left: b}
-	for len(r.left) > 0 {
-		r.revision()
+	e := halt.Run(func() {
+		for len(r.left) > 0 {
+			r.revision()
+		}
+	})
+	if e != api.OK {
+		return nil, nil, e
 	}
 	return r.revs, r.nodes, api.OK
 }
 
-// need throws the error, if it isn't so.
-func (r *reader) need(so bool, no api.Errno) {
-	if !so {
-		panic(fault{no})
-	}
-}
-
 func (r *reader) take(n int) []byte {
-	r.need(n <= len(r.left), api.ErrEnd)
+	halt.Unless(n <= len(r.left), api.ErrEnd)
 	b := r.left[:n]
 	r.left = r.left[n:]
 	return b
@@ -55,15 +40,15 @@ func (r *reader) take(n int) []byte {
 
 func (r *reader) revision() {
 	n := len(r.revs)
-	r.need(n < api.MaxItems, api.ErrLong)
+	halt.Unless(n < api.MaxItems, api.ErrLong)
 	f, ok := frontOf(r.take(frontSize), n, r.chunks)
-	r.need(ok, api.ErrForm)
-	r.need(f.text <= api.MaxBody, api.ErrLong)
+	halt.Unless(ok, api.ErrForm)
+	halt.Unless(f.text <= api.MaxBody, api.ErrLong)
 	chunk := r.take(f.chunk)
 	r.chunks += f.chunk
 	text := r.text(f.base, r.held(chunk))
-	r.need(len(text) == f.text, api.ErrForm)
-	r.need(Node(nodeAt(r.nodes, f.p1), nodeAt(r.nodes, f.p2), text) == f.node, api.ErrSum)
+	halt.Unless(len(text) == f.text, api.ErrForm)
+	halt.Unless(Node(nodeAt(r.nodes, f.p1), nodeAt(r.nodes, f.p2), text) == f.node, api.ErrSum)
 	r.revs = append(r.revs, Rev{f.p1, f.p2, f.link, text})
 	r.nodes = append(r.nodes, f.node)
 }
@@ -80,11 +65,12 @@ func (r *reader) held(chunk []byte) []byte {
 		return chunk[1:]
 	case 'x':
 		b, n, e := zlib.Open(chunk, api.MaxBody)
-		r.need(e == api.OK, e)
-		r.need(n == len(chunk), api.ErrForm)
+		halt.On(e)
+		halt.Unless(n == len(chunk), api.ErrForm)
 		return b
 	}
-	panic(fault{api.ErrForm})
+	halt.With(api.ErrForm)
+	return nil
 }
 
 // text is the one of the next revision, with this base, whose chunk holds that.
@@ -93,6 +79,6 @@ func (r *reader) text(base int, held []byte) []byte {
 		return slices.Clone(held)
 	}
 	text, e := patch.Apply(r.revs[base].Text, held, api.MaxBody)
-	r.need(e == api.OK, e)
+	halt.On(e)
 	return text
 }

@@ -6,6 +6,7 @@ import (
 	"tramway/api"
 	"tramway/change"
 	"tramway/copies"
+	"tramway/halt"
 	"tramway/manifest"
 	"tramway/revlog"
 )
@@ -25,9 +26,7 @@ func (d *shop) commit(p, q api.Id, c change.Change, tree []File) api.Id {
 	l := unnamed(tree)
 	c.Manifest, c.Files = api.Id{}, nil
 	needRight(l, c)
-	if p1 < 0 && p2 >= 0 {
-		need(api.ErrForm)
-	}
+	halt.Unless(p1 >= 0 || p2 < 0, api.ErrForm)
 	manifests := d.log(manifestLog)
 	a, b := d.side(v, p1), d.side(v, p2)
 	link := len(v.Nodes)
@@ -35,11 +34,11 @@ func (d *shop) commit(p, q api.Id, c change.Change, tree []File) api.Id {
 		l[i].Node = d.fileNode(f, a, b, link)
 	}
 	text, e := manifest.Print(l)
-	need(e)
+	halt.On(e)
 	c.Manifest = d.keep(manifests, revlog.Rev{P1: a.at, P2: b.at, Link: link, Text: text})
 	c.Files = manifest.Diff(a.files, l)
 	text, e = change.Print(c)
-	need(e)
+	halt.On(e)
 	return d.keep(changes, revlog.Rev{P1: p1, P2: p2, Link: link, Text: text})
 }
 
@@ -63,9 +62,9 @@ func unnamed(tree []File) []manifest.File {
 // needRight: may these files, and c, be committed?
 func needRight(l []manifest.File, c change.Change) {
 	_, e := manifest.Print(l)
-	need(e)
+	halt.On(e)
 	_, e = change.Print(c)
-	need(e)
+	halt.On(e)
 }
 
 // side tells the manifest of the change i; of -1 it has no files.
@@ -78,7 +77,7 @@ func (d *shop) side(v Vault, i int) side {
 	x.at = l.at(v.Changes[i].Manifest)
 	var e api.Errno
 	x.files, e = manifest.Parse(l.revs[x.at].Text)
-	need(e)
+	halt.On(e)
 	for _, f := range x.files {
 		x.nodes[f.Path] = f.Node
 	}
@@ -90,7 +89,7 @@ func (d *shop) fileNode(f File, p, q side, link int) api.Id {
 	l := d.fileLog(f.Path)
 	a, b := l.of(p, f.Path), l.of(q, f.Path)
 	text, e := copies.Print(f.Text, copies.From{})
-	need(e)
+	halt.On(e)
 	if a < 0 {
 		a, b = b, -1
 	}

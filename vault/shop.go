@@ -3,6 +3,7 @@ package vault
 import (
 	"tramway/api"
 	"tramway/files"
+	"tramway/halt"
 	"tramway/lay"
 	"tramway/names"
 	"tramway/revlog"
@@ -36,7 +37,7 @@ func newShop(s *files.Store, front string) *shop {
 func (d *shop) path(name string) string { return lay.Under(d.front, name) }
 
 func (d *shop) lay(path string, b []byte) {
-	need(lay.Down(d.s, d.path("tmp"), path, b))
+	halt.On(lay.Down(d.s, d.path("tmp"), path, b))
 }
 
 // log is the one of that name; one that isn't there has no revisions.
@@ -48,7 +49,7 @@ func (d *shop) log(name string) *log {
 	l.b, _ = d.s.Read(l.path)
 	var e api.Errno
 	l.revs, l.nodes, e = revlog.Read(l.b)
-	need(e)
+	halt.On(e)
 	d.logs[name] = l
 	return l
 }
@@ -56,16 +57,14 @@ func (d *shop) log(name string) *log {
 // fileLog is the one of a file's path.
 func (d *shop) fileLog(path string) *log {
 	name, e := names.Name(path)
-	need(e)
+	halt.On(e)
 	return d.log(storeDir + name)
 }
 
 // at is where a node is in the log, if it is there.
 func (l *log) at(node api.Id) int {
 	i := revlog.Find(l.nodes, node)
-	if i < 0 {
-		need(api.ErrNone)
-	}
+	halt.Unless(i >= 0, api.ErrNone)
 	return i
 }
 
@@ -84,7 +83,7 @@ func (d *shop) keep(l *log, r revlog.Rev) api.Id {
 		return node
 	}
 	b, _, e := revlog.Add(l.b, r)
-	need(e)
+	halt.On(e)
 	d.lay(l.path, b)
 	l.b, l.revs, l.nodes = b, append(l.revs, r), append(l.nodes, node)
 	return node

@@ -3,6 +3,7 @@ package vault
 import (
 	"tramway/api"
 	"tramway/copies"
+	"tramway/halt"
 )
 
 // tree tells a change's files.
@@ -13,7 +14,7 @@ func (d *shop) tree(node api.Id) []File {
 	for _, f := range x.files {
 		files := d.fileLog(f.Path)
 		text, _, e := copies.Parse(files.revs[files.at(f.Node)].Text)
-		need(e)
+		halt.On(e)
 		l = append(l, File{f.Path, f.Flag, text})
 	}
 	return l
