@@ -3,7 +3,6 @@ package pack
 import (
 	"bytes"
 	"slices"
-	"sort"
 
 	"tramway/api"
 	"tramway/nums"
@@ -83,11 +82,25 @@ func Find(index []byte, id api.Id) (int, api.Errno) {
 	if !ok {
 		return 0, api.ErrForm
 	}
-	i, ok := sort.Find(t.n, func(i int) int { return bytes.Compare(id[:], t.id(i)) })
-	if !ok {
+	i := t.place(id)
+	if i == t.n || idOf(t.id(i)) != id {
 		return 0, api.ErrNone
 	}
 	return t.begin(i), api.OK
+}
+
+// place is the first one whose id isn't less, looked for by halves.
+func (t table) place(id api.Id) int {
+	low, high := 0, t.n
+	for low < high {
+		middle := (low + high) / 2
+		if bytes.Compare(t.id(middle), id[:]) < 0 {
+			low = middle + 1
+		} else {
+			high = middle
+		}
+	}
+	return low
 }
 
 // tableOf is the index b, and whether it is right.
