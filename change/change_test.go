@@ -27,6 +27,7 @@ func rightOnes() map[string]change.Change {
 		"07" + zero[2:] + "\nA <a>\n5 -3600\na\nb/c\n\nd\n\ne\n":                         {Manifest: api.Id{7}, User: "A <a>", Time: 5, Zone: -3600, Files: []string{"a", "b/c"}, Desc: "d\n\ne\n"},
 		zero + "\n \n4611686018427387903 86399\n\n\n":                                    {User: " ", Time: 1<<62 - 1, Zone: 86399, Desc: "\n"},
 		zero + "\nu\x00\r\xff\n0 -86399\n\n\x00\xff":                                     {User: "u\x00\r\xff", Zone: -86399, Desc: "\x00\xff"},
+		zero + "\nu\n0 0 09AZaz-_:\n\n":                                                  {User: "u", Extras: extras{{Key: "09AZaz-_"}}},
 		zero + "\nu\n0 0 a:\n\n":                                                         {User: "u", Extras: extras{{Key: "a"}}},
 		zero + "\nu\n0 0 -:x:y\x00A_9:\\\\n\\n\\r\\0\\\\\\\\\x00" + hundred + ": z \n\n": {User: "u", Extras: extras{{Key: "-", Value: "x:y"}, {Key: "A_9", Value: "\\n\n\r\x00\\\\"}, {Key: hundred, Value: " z "}}},
 		zero + "\nu\n0 0\n a \nb\tc\n\n":                                                 {User: "u", Files: []string{" a ", "b\tc"}},

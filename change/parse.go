@@ -11,59 +11,41 @@ import (
 // rest is what is left of a text.
 type rest struct{ left string }
 
-// line takes the next line, and tells whether it ended.
-func (r *rest) line() (string, bool) {
-	line, behind, ok := strings.Cut(r.left, "\n")
+// line takes the next line; behind the last one they are empty.
+func (r *rest) line() string {
+	line, behind, _ := strings.Cut(r.left, "\n")
 	r.left = behind
-	return line, ok
+	return line
 }
 
-// reader reads a text, part by part. It takes some that are told otherwise than they should be.
-type reader struct {
-	rest
-	wrong bool // a part wasn't there
-}
+// reader reads a text, part by part. Parts that aren't as they should be it takes for others: Parse sees to that.
+type reader struct{ rest }
 
 // Parse tells a text's.
 func Parse(b []byte) (Change, api.Errno) {
 	r := reader{rest: rest{string(b)}}
 	var c Change
 	c.Manifest = r.id()
-	c.User = r.part()
+	c.User = r.line()
 	c.Time, c.Zone, c.Extras = r.date()
 	c.Files = r.files()
 	c.Desc = r.left
-	// What was told otherwise shows here.
+	// What isn't as it should be isn't printed so.
 	again, e := Print(c)
-	if r.wrong || e != api.OK || string(again) != string(b) {
+	if e != api.OK || string(again) != string(b) {
 		return Change{}, api.ErrForm
 	}
 	return c, api.OK
 }
 
-// part is a line that must be there.
-func (r *reader) part() string {
-	line, ok := r.line()
-	if !ok {
-		r.wrong = true
-	}
-	return line
-}
-
 func (r *reader) id() api.Id {
-	id, e := sha.Parse(r.part())
-	if e != api.OK {
-		r.wrong = true
-	}
+	id, _ := sha.Parse(r.line())
 	return id
 }
 
-func (r *reader) number(s string) int {
+func number(s string) int {
 	digits, below := strings.CutPrefix(s, "-")
-	n, e := nums.FromDec(digits)
-	if e != api.OK {
-		r.wrong = true
-	}
+	n, _ := nums.FromDec(digits)
 	if below {
 		return -n
 	}
@@ -71,7 +53,7 @@ func (r *reader) number(s string) int {
 }
 
 func (r *reader) date() (int, int, []Extra) {
-	time, behind, _ := strings.Cut(r.part(), " ")
+	time, behind, _ := strings.Cut(r.line(), " ")
 	zone, words, more := strings.Cut(behind, " ")
 	var l []Extra
 	if more {
@@ -80,7 +62,7 @@ func (r *reader) date() (int, int, []Extra) {
 			l = append(l, Extra{key, parseValue(value)})
 		}
 	}
-	return r.number(time), r.number(zone), l
+	return number(time), number(zone), l
 }
 
 func parseValue(s string) string {
@@ -112,11 +94,7 @@ func meant(c byte) byte {
 // files are the lines up to the empty one.
 func (r *reader) files() []string {
 	var l []string
-	for !r.wrong {
-		line := r.part()
-		if line == "" {
-			break
-		}
+	for line := r.line(); line != ""; line = r.line() {
 		l = append(l, line)
 	}
 	return l

@@ -119,7 +119,7 @@ func TestParseOfWrongBodies(t *testing.T) {
 			t.Errorf("%q: %d", s, e)
 		}
 	}
-	for _, s := range []string{"", "\n", tree, tree + author + committer, tree + author + committer + "m", parent + tree + author + committer + "\n", tree + tree + author + committer + "\n",
+	for _, s := range []string{"", "\n", tree, tree[:45], tree + parent[:47], tree + parent + parent[:20], tree + author + committer, tree + author + committer + "m", parent + tree + author + committer + "\n", tree + tree + author + committer + "\n",
 		tree + author + parent + committer + "\n", tree + committer + author + "\n", tree + author + "\n", author + committer + "\n", tree + author + committer + "x\n\n",
 		tree + author + committer + " x\n\n", tree + author + committer + " \n\n", tree + author + committer + parent + "\n", tree + author + committer + "x y", tree + author + committer + "x y\n", tree + author + committer + "x\n y\n\n",
 		tree + author + author + committer + "\n", tree + author + committer + committer + "\n", tree + author + committer + "tree x\n\n",

@@ -262,27 +262,36 @@ func TestTooManyCommits(t *testing.T) {
 	empty := treeOf(s, "git")
 	const packed = 200
 	var items []pack.Item
-	var parents []api.Id
+	var ids []api.Id
 	for i := range api.MaxItems + 1 {
-		body, _ := commit.Print(commit.Commit{Tree: empty, Parents: parents, Author: ann, Committer: ann, Message: strconv.Itoa(i)})
+		c := commit.Commit{Tree: empty, Parents: ids[max(0, i-1):i], Author: ann, Committer: ann, Message: strconv.Itoa(i)}
+		body, _ := commit.Print(c)
+		id, _ := object.Id(object.Commit, body)
+		ids = append(ids, id)
 		if i < packed {
 			items = append(items, pack.Item{Kind: object.Commit, Body: body})
-			id, _ := object.Id(object.Commit, body)
-			parents = []api.Id{id}
 			continue
 		}
-		parents = []api.Id{put(s, "git", object.Commit, body)}
+		put(s, "git", object.Commit, body)
 	}
 	b, _ := pack.Write(items)
 	index, _ := pack.Index(b)
 	hex := sha.Hex(api.Id(b[len(b)-20:]))
 	lie(s, "git/pack/"+hex+".pack", string(b))
 	lie(s, "git/pack/"+hex+".idx", string(index))
-	setRef(s, "git", "refs/heads/main", parents[0])
+	setRef(s, "git", "refs/heads/main", ids[api.MaxItems])
 	is(t, "Forward", forward(s), api.ErrLong)
 	if v, _ := vault.Load(s, "hg"); len(v.Nodes) != 0 {
 		t.Error("something was converted")
 	}
+	var pairs []marks.Pair
+	for _, id := range ids {
+		pairs = append(pairs, marks.Pair{Git: id, Hg: id})
+	}
+	is(t, "Save", marks.Save(s, "map", pairs), api.OK)
+	is(t, "Forward, all being marked", forward(s), api.ErrLong)
+	setRef(s, "git", "refs/heads/main", ids[api.MaxItems-1])
+	is(t, "Forward of as many as may be", forward(s), api.OK)
 }
 
 // P25.2 and T6.
@@ -353,6 +362,9 @@ func TestErrorsOfBack(t *testing.T) {
 			is(t, name+", again", back(s), c.e)
 			if !reflect.DeepEqual(state(s, "hg/"), was) {
 				t.Error("the source was written to")
+			}
+			if name == "broken refs" && len(s.List("git/objects/")) > 0 {
+				t.Error("something was converted")
 			}
 		})
 	}

@@ -161,6 +161,30 @@ func TestMakeOfShortBytes(t *testing.T) {
 	}
 }
 
+// P8.3: pieces of the base, that begin and end anywhere.
+func TestMakeOfPieces(t *testing.T) {
+	r := rand.New(rand.NewSource(8))
+	letters := func(n int) []byte {
+		b := make([]byte, n)
+		for i := range b {
+			b[i] = byte('a' + r.Intn(2))
+		}
+		return b
+	}
+	for range 2000 {
+		base := letters(200)
+		var target []byte
+		for range 1 + r.Intn(5) {
+			from := r.Intn(len(base))
+			target = append(append(target, letters(r.Intn(20))...), base[from:from+r.Intn(len(base)-from)]...)
+		}
+		made := delta.Make(base, target)
+		if got, e := delta.Apply(base, made, len(target)); e != api.OK || !bytes.Equal(got, target) {
+			t.Fatalf("%s to %s: % x", base, target, made)
+		}
+	}
+}
+
 // P8.3
 func TestMakeOfTheSame(t *testing.T) {
 	for _, n := range []int{0, 1, 15, 16, 17, 100, 65535, 65536, 65537, 200000, 1<<24 - 1, 1 << 24, 1<<24 + 5} {

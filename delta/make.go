@@ -106,9 +106,6 @@ func (w *writer) copy(place, size int) {
 
 // copyStep puts one copy, of at most mostCopy bytes.
 func (w *writer) copyStep(place, size int) {
-	if size == nothingIs {
-		size = 0
-	}
 	first := len(w.d)
 	w.d = append(w.d, copies)
 	x := place | size<<(8*placeBytes)

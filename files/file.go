@@ -44,7 +44,7 @@ func (f *file) keepAll() {
 
 // crash leaves what was kept and the first n of the open changes.
 func (f *file) crash(n int) {
-	f.stands = slices.Clone(f.kept)
+	f.stands = f.kept
 	for _, c := range f.open[:min(max(n, 0), len(f.open))] {
 		f.stands = c.apply(f.stands)
 	}

@@ -330,6 +330,8 @@ func TestMemory(t *testing.T) {
 	s.Write("a", 0, b)
 	b[0] = 'X'
 	reads(t, s, "a", "abc")
+	s.Crash(1)
+	reads(t, s, "a", "abc")
 	s.Write("a", 3, []byte("d"))
 	if string(b[:4]) != "Xbc\x00" {
 		t.Error("the room behind a list was written to")

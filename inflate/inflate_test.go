@@ -160,6 +160,63 @@ func TestFixedBlocks(t *testing.T) {
 	want(t, "a copy that is cut short by most", open(1).code(a).code("0000001").code("00000").full(), 3, "", 0, api.ErrLong)
 }
 
+// digits is a number as n bits, the highest first.
+func digits(x, n int) string {
+	s := ""
+	for i := n - 1; i >= 0; i-- {
+		s += string(rune('0' + x>>i&1))
+	}
+	return s
+}
+
+// fixed is the fixed code of a sign from 256 on.
+func fixed(sign int) string {
+	if sign <= 279 {
+		return digits(sign-256, 7)
+	}
+	return digits(sign-280+0xc0, 8)
+}
+
+// P3.1: each sign of a length, with the least and the most that its further bits tell.
+func TestEachLength(t *testing.T) {
+	least := []int{3, 4, 5, 6, 7, 8, 9, 10, 11, 13, 15, 17, 19, 23, 27, 31, 35, 43, 51, 59, 67, 83, 99, 115, 131, 163, 195, 227, 258}
+	for i, n := range least {
+		further := max(0, i-4) / 4
+		if i == 28 {
+			further = 0
+		}
+		for _, x := range []int{0, 1<<further - 1} {
+			b := open(1).code("10010001").code(fixed(257+i)).num(x, further).code("00000").code("0000000").full()
+			want(t, "a length", b, 300, strings.Repeat("a", 1+n+x), len(b), api.OK)
+		}
+	}
+}
+
+// P3.1: each sign of a distance, with the least and the most that its further bits tell.
+func TestEachDistance(t *testing.T) {
+	least := []int{1, 2, 3, 4, 5, 7, 9, 13, 17, 25, 33, 49, 65, 97, 129, 193, 257, 385, 513, 769, 1025, 1537, 2049, 3073, 4097, 6145, 8193, 12289, 16385, 24577}
+	noise := make([]byte, 32768)
+	rand.New(rand.NewSource(3)).Read(noise)
+	for i, n := range least {
+		further := max(0, i-2) / 2
+		for _, x := range []int{0, 1<<further - 1} {
+			s := new(stream).num(0, 3).num(0, 5).num(32767, 16).num(32768, 16)
+			for _, c := range noise[:32767] {
+				s.num(int(c), 8)
+			}
+			s.num(0, 3).num(0, 5).num(1, 16).num(65534, 16).num(int(noise[32767]), 8)
+			s.num(1, 1).num(1, 2).code(fixed(257)).code(digits(i, 5)).num(x, further).code("0000000")
+			made := bytes.Clone(noise)
+			for range 3 {
+				made = append(made, made[len(made)-n-x])
+			}
+			if got, took, e := inflate.Raw(s.b, 40000); !bytes.Equal(got, made) || took != len(s.b) || e != api.OK {
+				t.Errorf("distance %d: %d bytes, %d, %d", n+x, len(got), took, e)
+			}
+		}
+	}
+}
+
 // lengthOrder is that in which the lengths of the code for lengths come.
 var lengthOrder = []int{16, 17, 18, 0, 8, 7, 9, 6, 10, 5, 11, 4, 12, 3, 13, 2, 14, 1, 15}
 
@@ -229,6 +286,31 @@ func TestRowsOfLengths(t *testing.T) {
 	// 16 tells the length ahead, not nought: 255, 256 and two more signs have the length 2.
 	s = own(259, 1, map[int]int{0: 2, 2: 2, 16: 2, 18: 2}).noughts(255).code("01").code("10").num(0, 2).code("00").code("01")
 	want(t, "16 tells the last length", s.full(), 9, "", len(s.b), api.OK)
+}
+
+// P3.1: codes of all lengths, up to 15.
+func TestLongestCodes(t *testing.T) {
+	// The code for lengths: 18 is "0", 0 to 15 are "1" and four bits.
+	lengths := map[int]int{18: 1}
+	for n := range 16 {
+		lengths[n] = 5
+	}
+	sign := func(n int) string { return "1" + digits(n, 4) }
+	for _, last := range []int{15, 14} {
+		s := own(257, 1, lengths)
+		s.code("0").num(97-11, 7)
+		for n := 1; n <= 14; n++ { // a to n: 1 to 14 bits
+			s.code(sign(n))
+		}
+		s.code(sign(15)).code("0").num(138-11, 7).code(sign(0)).code(sign(0)).code(sign(0)).code(sign(0)).code(sign(0)).code(sign(0))
+		s.code(sign(last)).code(sign(0)) // 256, and no distance
+		s.code("11111111111110").code("0").code("111111111111110").code("111111111111111")
+		if last == 15 {
+			want(t, "a code of 1 to 15 bits", s.full(), 9, "nao", len(s.b), api.OK)
+		} else {
+			want(t, "one of 14 too many", s.full(), 9, "", 0, api.ErrForm)
+		}
+	}
 }
 
 // P3.1

@@ -118,7 +118,7 @@ func TestFromLeb(t *testing.T) {
 		{nil, 0, 0, api.ErrEnd}, {row(1, 0x80), 0, 0, api.ErrEnd}, {row(11, 0x80), 0, 0, api.ErrEnd}, {row(12, 0x80), 0, 0, api.ErrEnd},
 		{row(1, 0x80, 0), 0, 2, api.OK}, {row(11, 0x80, 0), 0, 12, api.OK}, {row(12, 0x80, 0), 0, 0, api.ErrLong},
 		{row(11, 0x80, 1), 0, 0, api.ErrLong}, {row(8, 0xff, 0x3f), tooGreat - 1, 9, api.OK}, {row(8, 0x80, 0x40), 0, 0, api.ErrLong},
-		{row(8, 0x80, 0xc0), 0, 0, api.ErrLong}, {row(9, 0x80, 1), 0, 0, api.ErrLong}, {row(10, 0x80, 2), 0, 0, api.ErrLong},
+		{row(8, 0x80, 0xc0), 0, 0, api.ErrLong}, {row(8, 0x80, 0xc0, 0), 0, 0, api.ErrLong}, {row(9, 0x80, 1), 0, 0, api.ErrLong}, {row(10, 0x80, 2), 0, 0, api.ErrLong},
 		{row(8, 0xff, 0xbf, 0x80, 0x80, 0), tooGreat - 1, 12, api.OK}, {row(1, 0xac, 2, 9, 9), 300, 2, api.OK},
 	} {
 		if n, k, e := nums.FromLeb(c.b); n != c.n || k != c.k || e != c.e {

@@ -115,7 +115,7 @@ func TestOpenOfWrongBytes(t *testing.T) {
 	}
 	good, _ := object.Loose(object.Blob, []byte("x"))
 	for n := range good {
-		if _, _, e := object.Open(good[:n]); e != api.ErrEnd {
+		if k, b, e := object.Open(good[:n]); k != 0 || b != nil || e != api.ErrEnd {
 			t.Errorf("cut at %d: %d", n, e)
 		}
 	}
@@ -136,15 +136,16 @@ func TestOpenOfWrongBytes(t *testing.T) {
 func TestOpenOfLongBodies(t *testing.T) {
 	for n, want := range map[int]api.Errno{api.MaxBody: api.OK, api.MaxBody + 1: api.ErrLong, api.MaxBody + 6: api.ErrLong, api.MaxBody + 7: api.ErrLong, api.MaxBody + 500: api.ErrLong} {
 		b := zlib.Wrap(append([]byte("blob "+strconv.Itoa(n)+"\x00"), make([]byte, n)...))
-		if _, body, e := object.Open(b); e != want || e != api.OK && body != nil {
+		if k, body, e := object.Open(b); e != want || e != api.OK && (k != 0 || body != nil) {
 			t.Errorf("%d bytes: %d, want %d", n, e, want)
 		}
 	}
-	// A body that is too long, and bytes behind the frame: the form is named first.
-	n := api.MaxBody + 1
-	b := zlib.Wrap(append([]byte("blob "+strconv.Itoa(n)+"\x00"), make([]byte, n)...))
-	if _, _, e := object.Open(append(b, 0)); e != api.ErrForm {
-		t.Errorf("too long, and a byte behind: %d", e)
+	// With a byte behind the frame: the form is named ahead of the body's length, but behind the frame's own errors.
+	for n, want := range map[int]api.Errno{api.MaxBody + 6: api.ErrForm, api.MaxBody + 7: api.ErrLong} {
+		b := zlib.Wrap(append([]byte("blob "+strconv.Itoa(n)+"\x00"), make([]byte, n)...))
+		if _, _, e := object.Open(append(b, 0)); e != want {
+			t.Errorf("%d bytes, and a byte behind: %d, want %d", n, e, want)
+		}
 	}
 }
 

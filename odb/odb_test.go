@@ -183,6 +183,19 @@ func TestGetOfPacks(t *testing.T) {
 	refused(t, "another entry begins there", s, "g", a, api.ErrForm)
 }
 
+// P13.1: a place where no entry begins.
+func TestWrongPlace(t *testing.T) {
+	a := thing{3, "a"}
+	b, index, hex := packOf(a)
+	index[len(index)-41]++
+	sum := sha.Sum(index[:len(index)-20])
+	copy(index[len(index)-20:], sum[:])
+	s := files.New(room)
+	lie(s, "pack/"+hex+".pack", b)
+	lie(s, "pack/"+hex+".idx", index)
+	refused(t, "a place that is one too great", s, "", a, api.ErrForm)
+}
+
 // P13.1: the place that the index tells counts, of two entries with one id, too.
 func TestSecondOfTwo(t *testing.T) {
 	a := thing{3, "a"}
@@ -411,6 +424,24 @@ func TestPackThatIsThere(t *testing.T) {
 		t.Fatal(e)
 	}
 	other.Crash()
+	got(t, other, "", things()...)
+}
+
+// P13.4: a broken pack of the new one's name is laid down anew.
+func TestBrokenPackIsReplaced(t *testing.T) {
+	s := files.New(room)
+	put(t, s, "", things()...)
+	odb.Pack(s, "")
+	other := files.New(room)
+	put(t, other, "", things()...)
+	for p, b := range state(s) {
+		if strings.HasSuffix(p, ".pack") {
+			lie(other, p, []byte(b[1:]))
+		}
+	}
+	if e := odb.Pack(other, ""); e != api.OK {
+		t.Fatal(e)
+	}
 	got(t, other, "", things()...)
 }
 

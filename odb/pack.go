@@ -83,7 +83,7 @@ func (d *side) removeOthers(hex string) api.Errno {
 		}
 	}
 	for _, path := range append(l, d.loose()...) {
-		if e := d.s.Remove(path); e != api.OK && e != api.ErrNone {
+		if e := d.s.Remove(path); e != api.OK {
 			return e
 		}
 	}

@@ -129,9 +129,24 @@ func TestReadOfWhatWasWritten(t *testing.T) {
 		if got, e := pack.Read(s); e != api.OK || !same(got, l) {
 			t.Errorf("sample %d, small: %d", i, e)
 		}
+		if i == 3 && len(s) > len(b)*9/10 {
+			t.Errorf("%d bytes instead of %d: objects that are alike should go by one another", len(s), len(b))
+		}
 		if again, _ := pack.Small(l); !bytes.Equal(again, s) {
 			t.Errorf("sample %d: another answer to the same question", i)
 		}
+	}
+}
+
+// P12.1, P12.2: a body that is just as long as may be.
+func TestLongBody(t *testing.T) {
+	l := []pack.Item{{Kind: object.Blob, Body: make([]byte, api.MaxBody)}}
+	b, e := pack.Write(l)
+	if e != api.OK {
+		t.Fatal(e)
+	}
+	if got, e := pack.Read(b); e != api.OK || !same(got, l) {
+		t.Error(e)
 	}
 }
 
@@ -200,6 +215,7 @@ func TestEntries(t *testing.T) {
 		{"the front", raw(2, abc, one(6, len(d), nums.Ofs(len(abc)+12), d)), api.ErrForm, nil},
 		{"itself", raw(2, abc, one(6, len(d), nums.Ofs(0), d)), api.ErrForm, nil},
 		{"an id that isn't there", raw(2, abc, append([]byte{0x70}, idOf(3, "abc")[:19]...)), api.ErrEnd, nil},
+		{"an id that none has, and no more", raw(2, abc, append([]byte{0x70}, idOf(3, "abd")...)), api.ErrNone, nil},
 		{"an id that none has", raw(2, abc, one(7, len(d), idOf(3, "abd"), d)), api.ErrNone, nil},
 		{"an id of another kind", raw(2, abc, one(7, len(d), idOf(2, "abc"), d)), api.ErrNone, nil},
 		{"an id that comes later", raw(2, one(7, len(d), idOf(3, "abc"), d), abc), api.ErrNone, nil},
@@ -322,6 +338,25 @@ func summed(b []byte) []byte {
 	return append(b[:len(b)-20:len(b)-20], sum[:]...)
 }
 
+// byHand is an index of ids with these first bytes, rising, and second bytes 1, 2 and so on.
+func byHand(first ...byte) []byte {
+	b := []byte("\xff\x74\x4f\x63\x00\x00\x00\x02")
+	for x := range 256 {
+		n := 0
+		for _, f := range first {
+			if int(f) <= x {
+				n++
+			}
+		}
+		b = append(b, nums.Be(uint64(n), 4)...)
+	}
+	for i, f := range first {
+		id := api.Id{f, byte(i + 1)}
+		b = append(b, id[:]...)
+	}
+	return summed(append(b, make([]byte, 8*len(first)+40)...))
+}
+
 // P12.3
 func TestFindInWrongIndexes(t *testing.T) {
 	b, _ := pack.Write(many(3))
@@ -340,12 +375,25 @@ func TestFindInWrongIndexes(t *testing.T) {
 		"nil": nil, "short": good[:100], "another mark": change(0, 0), "the version 1": change(7, 1), "more than there are": change(8+1023, 4), "fewer than there are": change(8+1023, 2),
 		"a great number": change(8+1020, 255), "numbers that fall": change(8+3, 3), "numbers that rise too early": change(8+4*128+3, good[8+4*128+3]^2), "another first byte": change(8+1024, good[8+1024]^1),
 		"ids that fall": summed(swapped), "another sum": append(bytes.Clone(good[:len(good)-1]), good[len(good)-1]^1), "a byte more": append(bytes.Clone(good), 0), "cut": summed(bytes.Clone(good[:len(good)-1])),
-		"a number ahead in none": func() []byte { c := bytes.Clone(none); c[8+3] = 1; return summed(c) }(),
+		"a great number among others": change(8+4*100, 255),
+		"a number ahead in none":      func() []byte { c := bytes.Clone(none); c[8+3] = 1; return summed(c) }(),
 	} {
 		for _, id := range []api.Id{{}, api.Id(idOf(3, "\x00\x00"))} {
 			if n, e := pack.Find(c, id); n != 0 || e != api.ErrForm {
 				t.Errorf("%s: %d %d", name, n, e)
 			}
+		}
+	}
+	if _, e := pack.Find(byHand(5, 5, 5), api.Id{5, 2}); e != api.OK {
+		t.Errorf("by hand: %d", e)
+	}
+	for i, order := range [][]byte{{2, 1, 3}, {1, 3, 2}, {3, 2, 1}} {
+		c := byHand(5, 5, 5)
+		for k, x := range order {
+			c[8+1024+20*k+1] = x
+		}
+		if _, e := pack.Find(summed(c), api.Id{5, 2}); e != api.ErrForm {
+			t.Errorf("ids that fall, %d: %d", i, e)
 		}
 	}
 	if _, e := pack.Find(none, api.Id{}); e != api.ErrNone {

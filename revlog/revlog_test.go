@@ -168,6 +168,7 @@ func TestErrorsOfRead(t *testing.T) {
 		"no chunk":                      {other(func(a, b *rev) { b.size = 99; b.chunk = "?" }), api.ErrEnd},
 		"far too great a chunk":         {other(func(a, b *rev) { b.size = math.MaxUint32 }), api.ErrEnd},
 		"a chunk that begins otherwise": {other(func(a, b *rev) { a.chunk = "?abc" }), api.ErrForm},
+		"one that holds nothing":        {other(func(a, b *rev) { *a = rev{chunk: "?", p1: -1, p2: -1, node: revlog.Node(none, none, nil)} }), api.ErrForm},
 		"a frame that is none":          {other(func(a, b *rev) { a.chunk = "xabc" }), api.ErrForm},
 		"a frame that ends":             {other(func(a, b *rev) { a.chunk = "x" }), api.ErrEnd},
 		"a frame with another sum":      {other(func(a, b *rev) { a.chunk = string(zlib.Wrap([]byte("abc"))); a.chunk = a.chunk[:len(a.chunk)-1] + "?" }), api.ErrSum},
@@ -212,7 +213,7 @@ func texts() [][]byte {
 	r := rand.New(rand.NewSource(1))
 	noise := make([]byte, 500)
 	r.Read(noise)
-	out := [][]byte{nil, []byte("u"), []byte("x"), {0}, []byte("\x00abc"), []byte("abc"), nil, []byte("a"), noise, append([]byte{0}, noise...), append([]byte("x"), noise...), noise, noise, bytes.Repeat([]byte("ab"), 5000)}
+	out := [][]byte{nil, []byte("\x01a"), []byte("u"), []byte("x"), {0}, []byte("\x00abc"), []byte("abc"), nil, []byte("a"), noise, append([]byte{0}, noise...), append([]byte("x"), noise...), noise, noise, bytes.Repeat([]byte("ab"), 5000)}
 	line := strings.Repeat("a line of it\n", 100)
 	for i := range 30 {
 		out = append(out, []byte(line[:i*13]+"another"+line[i*13:]))

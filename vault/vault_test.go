@@ -191,13 +191,14 @@ func TestFileNodesOfMerges(t *testing.T) {
 	n2 := commit(t, s, n0, none, "2", tree{f("a", "", "1"), f("b", "", "2")})
 	commit(t, s, n1, n0, "the second's, as it is", tree{f("a", "", "1"), f("b", "", "1")})
 	commit(t, s, n1, n2, "the second's, changed", tree{f("a", "", "changed"), f("b", "", "1")})
+	commit(t, s, n2, n0, "the first's, as it is", tree{f("b", "", "2")})
 	commit(t, s, n0, n0, "the same twice", tree{f("a", "", "1"), f("b", "", "twice")})
 	revs, _ := log(t, s, "data/a.i")
 	if len(revs) != 2 || revs[1].P1 != 0 || revs[1].P2 != -1 || revs[1].Link != 4 {
 		t.Errorf("a: %v", revs)
 	}
 	revs, _ = log(t, s, "data/b.i")
-	if len(revs) != 4 || revs[2].P1 != 0 || revs[2].P2 != 1 || revs[3].P1 != 0 || revs[3].P2 != -1 {
+	if len(revs) != 5 || revs[2].P1 != 0 || revs[2].P2 != 1 || revs[3].P1 != 1 || revs[3].P2 != 0 || revs[4].P1 != 0 || revs[4].P2 != -1 {
 		t.Errorf("b: %v", revs)
 	}
 	revs, _ = log(t, s, "00manifest.i")
